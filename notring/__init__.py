@@ -1,0 +1,1 @@
+"""Notring: rules with not, also in rings."""
