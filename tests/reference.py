@@ -1,0 +1,151 @@
+"""The document's words done in the plainest way, over Python's sets and the tuples that are told.
+
+It draws nothing from the package: the tests hold the program against it.
+"""
+
+import itertools
+
+
+def facts_in(bits):
+    """The facts of a set that is told as a whole number, as a Python set."""
+    return {fact for fact in range(bits.bit_length()) if bits & (1 << fact)}
+
+
+def bits_of(facts):
+    return sum(1 << fact for fact in set(facts))
+
+
+def carried(cond, have, may):
+    """Point 21, of a cond that is told as a tuple."""
+    if cond[0] == "have":
+        return cond[1] in have
+    if cond[0] == "lack":
+        return cond[1] not in may
+    if cond[0] == "some":
+        return sum(fact in have for fact in cond[2]) >= cond[1]
+    facts, at = cond[1:]
+    return facts[at] in have and not any(fact in may for fact in facts[:at])
+
+
+def blocked(cond, have, may):
+    """Point 21."""
+    if cond[0] == "have":
+        return cond[1] not in may
+    if cond[0] == "lack":
+        return cond[1] in have
+    if cond[0] == "some":
+        return sum(fact in may for fact in cond[2]) < cond[1]
+    facts, at = cond[1:]
+    return facts[at] not in may or any(fact in have for fact in facts[:at])
+
+
+def leaning(cond):
+    """Point 21."""
+    if cond[0] == "have":
+        return [(cond[1], False)]
+    if cond[0] == "lack":
+        return [(cond[1], True)]
+    if cond[0] == "some":
+        return [(fact, False) for fact in cond[2]]
+    facts, at = cond[1:]
+    return [(fact, place < at) for place, fact in enumerate(facts) if place <= at]
+
+
+def leaned(rows, fact):
+    """Point 23, of rows (head, conds)."""
+    return sorted({pair for head, conds in rows if head == fact for cond in conds for pair in leaning(cond)})
+
+
+def walk_leads(rows, many):
+    """The pairs (one, other) where a walk of at least one step leads from one to the other (31)."""
+    steps = {(fact, other) for fact in range(many) for other, _ in leaned(rows, fact)}
+    pairs = set(steps)
+    while True:
+        more = {(one, last) for one, middle in pairs for first, last in steps if middle == first} - pairs
+        if not more:
+            return pairs
+        pairs |= more
+
+
+def parts(rows, many):
+    """Point 31."""
+    pairs = walk_leads(rows, many)
+    left = {tuple(other for other in range(many)
+                  if other == fact or ((fact, other) in pairs and (other, fact) in pairs))
+            for fact in range(many)}
+    told = []
+    while left:
+        ahead = {fact for part in told for fact in part}
+        ready = [part for part in left
+                 if all(other in ahead or other in part for fact in part for other, _ in leaned(rows, fact))]
+        told.append(min(ready))
+        left.remove(told[-1])
+    return told
+
+
+def line_variables(line):
+    """The variables of a rule's line (24), as its words stand, counted ones left out."""
+    words = line.replace(",", "").split(" ")
+    counted = [words[place + 2] for place, word in enumerate(words) if word == "many"]
+    standing = [word for word in words if len(word) == 1 and word.isupper() and word not in counted]
+    return list(dict.fromkeys(standing))
+
+
+def line_instances(line, things):
+    """The instances of a rule's line: tuples (head, conds) with facts as texts, conds told as in 21."""
+    variables = line_variables(line)
+    head, _, behind = line.removeprefix("rule ").partition(" if ")
+    for chosen in itertools.product(things, repeat=len(variables)):
+        bound = dict(zip(variables, chosen))
+        yield fill(head, bound), [text_cond(cond, bound, things) for cond in behind.split(", ") if cond]
+
+
+def fill(text, bound):
+    return " ".join(bound.get(word, word) for word in text.split(" "))
+
+
+def text_cond(text, bound, things):
+    words = text.split(" ")
+    if words[0] == "not":
+        return ("lack", fill(" ".join(words[1:]), bound))
+    if words[0] == "many":
+        rest = " ".join(words[3:])
+        return ("some", int(words[1]), tuple(fill(rest, {**bound, words[2]: thing}) for thing in things))
+    if words[0] == "first":
+        rest = " ".join(words[2:])
+        facts = tuple(fill(rest, {**bound, words[1]: thing}) for thing in things)
+        return ("lead", facts, list(things).index(bound[words[1]]))
+    return ("have", fill(text, bound))
+
+
+def cond_texts(cond):
+    """The facts of a cond."""
+    if cond[0] == "some":
+        return cond[2]
+    if cond[0] == "lead":
+        return cond[1]
+    return (cond[1],)
+
+
+def numbered(cond, names):
+    """The cond with the numbers of its facts in the place of their texts."""
+    if cond[0] == "some":
+        return cond[:2] + (tuple(names.index(fact) for fact in cond[2]),)
+    if cond[0] == "lead":
+        return ("lead", tuple(names.index(fact) for fact in cond[1]), cond[2])
+    return (cond[0], names.index(cond[1]))
+
+
+def written(text):
+    """Points 24 and 25, of a book's text: names, rows and what is told."""
+    lines = text.split("\n")
+    things = lines[0].split(" ")[1:]
+    said = [line[4:] for line in lines if line.startswith("say ")]
+    instances = [instance for line in lines if line.startswith("rule ") for instance in line_instances(line, things)]
+    facts = set(said)
+    for head, conds in instances:
+        facts.add(head)
+        facts.update(fact for cond in conds for fact in cond_texts(cond))
+    names = sorted(facts)
+    rows = [(names.index(head), tuple(numbered(cond, names) for cond in conds)) for head, conds in instances]
+    return names, rows, bits_of(names.index(fact) for fact in said)
