@@ -149,3 +149,95 @@ def written(text):
     names = sorted(facts)
     rows = [(names.index(head), tuple(numbered(cond, names) for cond in conds)) for head, conds in instances]
     return names, rows, bits_of(names.index(fact) for fact in said)
+
+
+def ranked(rows, told, against):
+    """Points 41 and 43, over Python sets: a list of tuples (fact, step, row)."""
+    found = [(fact, 0, None) for fact in sorted(told)]
+    come = set(told)
+    step = 0
+    while True:
+        step += 1
+        fresh = {}
+        for row, (head, conds) in enumerate(rows):
+            if head not in come and head not in fresh and all(carried(cond, come, against) for cond in conds):
+                fresh[head] = row
+        if not fresh:
+            return found
+        found += [(fact, step, fresh[fact]) for fact in sorted(fresh)]
+        come |= set(fresh)
+
+
+def least(rows, told, against):
+    """Point 42."""
+    return {fact for fact, _, _ in ranked(rows, told, against)}
+
+
+def runs(rows, told):
+    """Point 51: pairs of Python sets."""
+    found = []
+    known = set()
+    while True:
+        first = least(rows, told, known)
+        second = least(rows, told, first)
+        if found and found[-1] == (first, second):
+            return found
+        found.append((first, second))
+        known = second
+
+
+def answers(rows, many, told):
+    """Point 52, a list of words."""
+    upper, lower = runs(rows, told)[-1]
+    return ["true" if fact in lower else "open" if fact in upper else "false" for fact in range(many)]
+
+
+def papers(rows, many, told):
+    """Point 62."""
+    rounds = runs(rows, told)
+    found = []
+    for fact, answer in enumerate(answers(rows, many, told)):
+        if fact in told:
+            found.append(("true", 0, 0, None))
+        elif answer == "true":
+            turn = min(turn for turn, pair in enumerate(rounds, 1) if fact in pair[1])
+            (place,) = [(step, row) for came, step, row in ranked(rows, told, rounds[turn - 1][0]) if came == fact]
+            found.append(("true", turn) + place)
+        elif answer == "false":
+            found.append(("false", min(turn for turn, pair in enumerate(rounds, 1) if fact not in pair[0])))
+        else:
+            (place,) = [(step, row) for came, step, row in ranked(rows, told, rounds[-1][1]) if came == fact]
+            found.append(("open",) + place)
+    return found
+
+
+def papers_right(rows, many, told, told_papers):
+    """Point 63, of a list of as many papers, all of their right forms."""
+    def ahead(turn, step):
+        return {fact for fact, paper in enumerate(told_papers)
+                if paper[0] == "true" and (paper[1] < turn or (paper[1] == turn and paper[2] < step))}
+
+    def false_by(turn):
+        return {fact for fact, paper in enumerate(told_papers) if paper[0] == "false" and paper[1] <= turn}
+
+    every = set(range(many))
+    true = {fact for fact in every if told_papers[fact][0] == "true"}
+    false = {fact for fact in every if told_papers[fact][0] == "false"}
+
+    def right(fact, paper):
+        own = [conds for head, conds in rows if head == fact]
+        if paper[0] == "true" and paper[3] is None:
+            return fact in told
+        if paper[0] == "true":
+            return all(carried(cond, ahead(*paper[1:3]), every - false_by(paper[1])) for cond in rows[paper[3]][1])
+        if fact in told:
+            return False
+        if paper[0] == "false":
+            lesser = {other for other in true if told_papers[other][1] < paper[1]}
+            return all(any(blocked(cond, lesser, every - false_by(paper[1])) for cond in conds) for conds in own)
+        if any(all(carried(cond, true, every - false) for cond in conds) for conds in own):
+            return False
+        lesser = {other for other in every - true - false if told_papers[other][1] < paper[1]}
+        return all(carried(cond, true | lesser, true) for cond in rows[paper[2]][1])
+
+    return all(right(fact, paper) for fact, paper in enumerate(told_papers))
