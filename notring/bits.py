@@ -13,7 +13,7 @@ def is_below(thing, many):
 
 def has_fact(facts, fact):
     """Whether the fact is in the set."""
-    return (facts >> fact) & 1 == 1
+    return ((facts >> fact) & 1) == 1
 
 
 def set_of(facts):

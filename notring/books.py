@@ -25,7 +25,12 @@ def read_book(text):
     """The Book of the text; refuses with BadLine, at the first wrong line."""
     if not isinstance(text, str):
         raise BadLine(1)
-    lines = text.split("\n")
+    return read_lines(text.split("\n"))
+
+
+def read_lines(lines):
+    """The Book of the lines, one at least; refuses with BadLine, at the first wrong one."""
+    # A line feed within a line makes it wrong, as any sign does that stands in no word.
     things = read_things(lines[0].split(" "))
     if things is None:
         raise BadLine(1)

@@ -41,7 +41,7 @@ def parts_by_least(reached):
 def is_ready(part, leaned, done):
     """Whether the part leans on itself and on what is done alone."""
     known = done | set_of(part)
-    return all([leaned[fact] & ~known == 0 for fact in part])
+    return all([(leaned[fact] & ~known) == 0 for fact in part])
 
 
 def ring_of(sheet, part):

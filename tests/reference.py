@@ -241,3 +241,76 @@ def papers_right(rows, many, told, told_papers):
         return all(carried(cond, true | lesser, true) for cond in rows[paper[2]][1])
 
     return all(right(fact, paper) for fact, paper in enumerate(told_papers))
+
+
+def worlds(rows, many, told):
+    """Point 71: all worlds, as whole numbers, rising."""
+    return [bits for bits in range(1 << many) if least(rows, told, facts_in(bits)) == facts_in(bits)]
+
+
+def narrow(rows, told, sure, may):
+    """Point 72, of Python sets."""
+    while True:
+        more = sure | least(rows, told, may)
+        less = may & least(rows, told, more)
+        if more - less or (more, less) == (sure, may):
+            return more, less
+        sure, may = more, less
+
+
+def tree(rows, told):
+    """Point 73, the whole tree."""
+    def node(sure, may):
+        sure, may = narrow(rows, told, sure, may)
+        if sure - may:
+            return ("broken", min(sure - may))
+        if sure == may:
+            return ("world", bits_of(sure))
+        fact = min(may - sure)
+        return ("split", fact, node(sure | {fact}, may), node(sure, may - {fact}))
+
+    upper, lower = runs(rows, told)[-1]
+    return node(lower, upper)
+
+
+def text_kind(fact):
+    """The kind of a fact that is told as a text (82)."""
+    return (fact.split(" ")[0], fact.count(" "))
+
+
+def asked(text, fact):
+    """Points 82 to 85, of a book's text and a fact's: (answer, wants), or the refusal's name and count."""
+    lines = text.split("\n")
+    things = lines[0].split(" ")[1:]
+    said = {line[4:] for line in lines if line.startswith("say ")}
+    rules = [line for line in lines if line.startswith("rule ")]
+    heads = [line.removeprefix("rule ").split(" if ")[0] for line in rules]
+    full = {text_kind(head) for head in heads}
+    every = {line: list(line_instances(line, things)) for line in rules}
+    wants = {fact: None}
+    done = []
+    counted = 0
+    instances = []
+    while len(done) < len(wants):
+        wanted = list(wants)[len(done)]
+        done.append(wanted)
+        fitting = [(line, head) for line, head in zip(rules, heads)
+                   if wanted in [told for told, _ in every[line]]]
+        counted += sum(len(things) ** len([name for name in line_variables(line) if name not in head.split(" ")])
+                       for line, head in fitting)
+        if counted > 400:
+            return "TooManyRows", counted
+        for line, _ in fitting:
+            for head, conds in every[line]:
+                bare = [cond for cond in conds if text_kind(cond_texts(cond)[0]) not in full]
+                if head == wanted and all(carried(cond, said, said) for cond in bare):
+                    rest = [cond for cond in conds if cond not in bare]
+                    for new in [new for cond in rest for new in cond_texts(cond)]:
+                        if new not in wants and len(wants) == 120:
+                            return "TooManyFacts", 121
+                        wants.setdefault(new, wanted)
+                    instances.append((head, rest))
+    names = list(wants)
+    rows = [(names.index(head), [numbered(cond, names) for cond in conds]) for head, conds in instances]
+    told = {names.index(name) for name in said if name in wants}
+    return answers(rows, len(names), told)[0], list(wants.items())

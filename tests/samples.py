@@ -1,5 +1,7 @@
 """What several tests hand in."""
 
+import random
+
 
 def letter_words(many):
     """Names of two letters, as many as asked for, none of them kept."""
@@ -40,6 +42,27 @@ def random_rows(chance, many, most_rows, most_conds=3):
         return []
     return [(chance.randrange(many), [random_cond(chance, many) for _ in range(chance.randint(0, most_conds))])
             for _ in range(chance.randint(0, most_rows))]
+
+
+def ringy_rows(chance, many):
+    """Rows of one or two conds, mostly lacks, by which many facts stay open."""
+    # Rings of two, which give several worlds where the other rows leave them alone.
+    rows = [(fact, [("lack", fact ^ 1)]) for fact in range(chance.randrange(many + 1) & ~1)]
+    for _ in range(chance.randint(many // 2, many)):
+        conds = [random_cond(chance, many)] if chance.random() < 0.3 else []
+        conds.append(("lack" if chance.random() < 0.8 else "have", chance.randrange(many)))
+        rows.append((chance.randrange(many), conds))
+    return rows
+
+
+def random_cases(seed, how_many, most_facts):
+    """Tuples (chance, many, rows, told), every other one with many open facts."""
+    chance = random.Random(seed)
+    for place in range(how_many):
+        many = chance.randint(place % 2, most_facts)
+        rows = ringy_rows(chance, many) if place % 2 else random_rows(chance, many, 2 * many)
+        told = chance.randrange(1 << many) & chance.randrange(1 << many) & chance.randrange(1 << many)
+        yield chance, many, rows, told if chance.random() < 0.5 else 0
 
 
 def random_atom(chance, words, terms):

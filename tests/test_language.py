@@ -28,8 +28,9 @@ UNUSED = """register mro elements open input version_info with_traceback add_not
 copyright credits delattr dir eval exec exit gc getattr globals hasattr help id importlib license locals methodcaller os
 quit setattr super type vars sys format format_map""".split()
 
-UNSAID = re.compile(r"\b(type|typing|typing_extensions|enum|Enum|IntEnum|StrEnum|Flag|IntFlag|Generic|Protocol|ABC|ABCMeta"
-                    r"|namedtuple|NamedTuple|TypedDict|TYPE_CHECKING|abstractmethod)\b|dataclass|overload|contextmanager")
+UNSAID = re.compile(r"\b(type|typing|typing_extensions|enum|Enum|IntEnum|StrEnum|Flag|IntFlag|Generic|Protocol|ABC"
+                    r"|ABCMeta|namedtuple|NamedTuple|TypedDict|TYPE_CHECKING|abstractmethod)\b"
+                    r"|dataclass|overload|contextmanager")
 
 
 def files():
@@ -55,6 +56,22 @@ def bound_names(node):
     if isinstance(node, ast.Attribute) and isinstance(node.ctx, ast.Store):
         return [node.attr]
     return []
+
+
+WALKED = ("zip", "enumerate", "reversed", "range", "items", "keys", "values")
+TAKERS = ("list", "tuple", "dict", "sorted", "sum", "any", "all", "enumerate", "zip", "min", "max", "join")
+
+
+def called(node):
+    """The name of what the node calls, if it is a call."""
+    if not isinstance(node, ast.Call):
+        return None
+    return node.func.attr if isinstance(node.func, ast.Attribute) else node.func.id
+
+
+def with_outer(tree):
+    """Tuples of a node and one that stands straight in it."""
+    return [(outer, node) for outer in ast.walk(tree) for node in ast.iter_child_nodes(outer)]
 
 
 class Language(unittest.TestCase):
@@ -118,7 +135,8 @@ class Language(unittest.TestCase):
     def test_no_name_is_a_method_and_a_value(self):
         methods = [node.name for _, top in nodes() if isinstance(top, ast.ClassDef) for node in top.body
                    if isinstance(node, ast.FunctionDef)]
-        values = [node.attr for _, node in nodes() if isinstance(node, ast.Attribute) and isinstance(node.ctx, ast.Store)]
+        values = [node.attr for _, node in nodes() if isinstance(node, ast.Attribute)
+                  and isinstance(node.ctx, ast.Store)]
         self.assertEqual(set(methods) & set(values), set())
 
     def test_imports(self):
@@ -134,6 +152,83 @@ class Language(unittest.TestCase):
                 for alias in row.names:
                     self.assertIn(alias.name, defined[row.module], name)
         self.assert_no_ring(drawn)
+
+    def test_the_top_of_a_file(self):
+        for name, tree in trees():
+            self.assertIsNotNone(ast.get_docstring(tree), name)
+            for node in tree.body[1:]:
+                self.assertIsInstance(node, (ast.ImportFrom, ast.FunctionDef, ast.ClassDef, ast.Assign),
+                                      (name, node.lineno))
+                if isinstance(node, ast.Assign):
+                    ast.literal_eval(node.value)
+
+    def test_is_stands_beside_none_true_and_false(self):
+        for name, node in nodes():
+            if isinstance(node, ast.Compare) and any(isinstance(sign, (ast.Is, ast.IsNot)) for sign in node.ops):
+                sides = [side.value for side in [node.left] + node.comparators if isinstance(side, ast.Constant)]
+                self.assertTrue(any(value in (None, True, False) for value in sides), (name, node.lineno))
+
+    def test_what_is_walked_on_the_spot(self):
+        for name, tree in trees():
+            for outer, node in with_outer(tree):
+                if called(node) in WALKED:
+                    place = (name, node.lineno)
+                    if isinstance(outer, (ast.For, ast.comprehension)):
+                        self.assertIs(outer.iter, node, place)
+                    else:
+                        self.assertIn(called(outer), TAKERS, place)
+                        self.assertIs(outer.args[0], node, place)
+
+    def test_sets_are_not_kept(self):
+        for name, tree in trees():
+            for outer, node in with_outer(tree):
+                if called(node) in ("set", "frozenset") or isinstance(node, ast.Set):
+                    self.assertTrue(called(outer) in ("sorted", "len") or isinstance(outer, (ast.Compare, ast.BinOp)),
+                                    (name, node.lineno))
+
+    def test_no_loop_changes_what_it_walks(self):
+        changes = ("append", "clear", "extend", "insert", "pop", "remove", "reverse", "setdefault", "update")
+        for name, node in nodes():
+            if isinstance(node, ast.For):
+                walked = [ast.unparse(node.iter)] + [ast.unparse(part) for part in getattr(node.iter, "args", [])]
+                for inner in ast.walk(node):
+                    if isinstance(inner, ast.Call) and isinstance(inner.func,
+                                                                  ast.Attribute) and inner.func.attr in changes:
+                        self.assertNotIn(ast.unparse(inner.func.value), walked, (name, inner.lineno))
+                    if isinstance(inner, ast.Subscript) and isinstance(inner.ctx, ast.Store):
+                        self.assertNotIn(ast.unparse(inner.value), walked, (name, inner.lineno))
+
+    def test_powers_and_keywords(self):
+        allowed = {"sorted": ["key", "reverse"], "min": ["key", "default"], "max": ["key", "default"], "sum": ["start"],
+                   "enumerate": ["start"], "zip": ["strict"]}
+        for name, node in nodes():
+            self.assertFalse(isinstance(getattr(node, "op", None), ast.Pow), name)
+            if isinstance(node, ast.Call):
+                for keyword in node.keywords:
+                    self.assertIn(keyword.arg, allowed.get(called(node), []), (name, node.lineno))
+
+    def test_locals_are_not_called_like_what_stands_at_the_top(self):
+        for name, tree in trees():
+            top = [bound for node in tree.body for bound in bound_names(node)]
+            top += [alias.asname or alias.name for node in tree.body if isinstance(node, ast.ImportFrom)
+                    for alias in node.names]
+            for function in ast.walk(tree):
+                if isinstance(function, ast.FunctionDef):
+                    inner = [bound for node in ast.walk(function) if isinstance(node, (ast.arg, ast.Name))
+                             for bound in bound_names(node)]
+                    self.assertEqual(set(inner) & set(top), set(), (name, function.name))
+
+    def test_errors_are_made_on_the_spot_and_the_program_takes_none(self):
+        for name, node in nodes():
+            self.assertNotIsInstance(node, ast.Try, name)
+            if isinstance(node, ast.Raise):
+                self.assertIsInstance(node.exc, ast.Call, (name, node.lineno))
+
+    def test_methods_with_two_underscores(self):
+        for name, node in nodes():
+            if isinstance(node, ast.FunctionDef) and node.name.startswith("__"):
+                self.assertEqual(node.name, "__init__", name)
+                self.assertEqual([inner for inner in ast.walk(node) if isinstance(inner, ast.Return)], [], name)
 
     def assert_no_ring(self, drawn):
         """Takes away the files that draw from none that is left, till all are gone."""

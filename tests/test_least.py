@@ -40,7 +40,8 @@ class Steps(unittest.TestCase):
         self.rank(4, rows, 0b0100, 0b1000, [(2, 0, None), (1, 1, 0)])
 
     def test_the_row_of_a_late_fact_when_several_were_helped_at_once(self):
-        rows = [(3, [("have", 2), ("have", 1)]), (3, [("have", 1)]), (1, [("have", 0)]), (2, [("have", 1)]), (3, [("have", 1)])]
+        rows = [(3, [("have", 2), ("have", 1)]), (3, [("have", 1)]), (1, [("have", 0)]), (2, [("have", 1)]),
+                (3, [("have", 1)])]
         self.rank(4, rows, 0b0001, 0, [(0, 0, None), (1, 1, 2), (2, 2, 3), (3, 2, 1)])
 
     def test_have(self):
@@ -79,7 +80,8 @@ class Steps(unittest.TestCase):
 
     def test_400_rows(self):
         rows = [(row % 120, [("have", (row + 1) % 120)]) for row in range(400)]
-        self.rank(120, rows, 1 << 119, 0, [(119, 0, None)] + [(fact, 119 - fact, fact) for fact in reversed(range(119))])
+        self.rank(120, rows, 1 << 119, 0, [(119, 0, None)] + [(fact, 119 - fact, fact)
+                                                              for fact in reversed(range(119))])
 
 
 class Least(unittest.TestCase):
@@ -120,7 +122,8 @@ class Least(unittest.TestCase):
                 self.assertEqual(least & ~least_set(sheet, told | more, against), 0)
 
     def test_all_sets_of_one_sheet(self):
-        rows = [(0, [("lack", 1)]), (1, [("lack", 0), ("some", 1, (2, 3))]), (2, [("lead", (3, 0), 1)]), (3, [("have", 2)])]
+        rows = [(0, [("lack", 1)]), (1, [("lack", 0), ("some", 1, (2, 3))]), (2, [("lead", (3, 0), 1)]),
+                (3, [("have", 2)])]
         for told, against in itertools.product(range(16), repeat=2):
             expected = reference.least(rows, reference.facts_in(told), reference.facts_in(against))
             self.assertEqual(least_set(Sheet(4, rows), told, against), reference.bits_of(expected))

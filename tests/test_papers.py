@@ -1,34 +1,26 @@
 """Points 61 to 64: papers that are told, papers that hold, and what is no papers."""
 
 import itertools
-import random
 import unittest
 
 import reference
 from notring.papers import papers_hold, papers_of
 from notring.sheets import Sheet
 from notring.sorting import Sorting
-from samples import NO_TEXTS, deep, random_rows
+from samples import NO_TEXTS, deep, random_cases
 
 # Fact 0 is told, 1 true by it, 2 and 5 false, 3 and 4 open, 6 true for the lack of 2.
-ROWS = [(1, [("have", 0)]), (2, [("lack", 1)]), (3, [("lack", 4)]), (4, [("lack", 3)]), (4, [("have", 2)]), (6, [("lack", 2)])]
+ROWS = [(1, [("have", 0)]), (2, [("lack", 1)]), (3, [("lack", 4)]), (4, [("lack", 3)]), (4, [("have", 2)]),
+        (6, [("lack", 2)])]
 MANY = 7
 TOLD = 0b0000001
-PAPERS = [("true", 0, 0, None), ("true", 1, 1, 0), ("false", 2), ("open", 1, 2), ("open", 1, 3), ("false", 1), ("true", 2, 1, 5)]
+PAPERS = [("true", 0, 0, None), ("true", 1, 1, 0), ("false", 2), ("open", 1, 2), ("open", 1, 3), ("false", 1),
+          ("true", 2, 1, 5)]
 
 
 def answers(sheet, told):
     sorting = Sorting(sheet, told)
     return [sorting.answer_of(fact) for fact in range(sheet.how_many())]
-
-
-def cases(seed, how_many, most_facts, per_fact=2):
-    chance = random.Random(seed)
-    for _ in range(how_many):
-        many = chance.randint(0, most_facts)
-        rows = random_rows(chance, many, per_fact * many)
-        told = chance.randrange(1 << many) & chance.randrange(1 << many) & chance.randrange(1 << many)
-        yield chance, many, rows, told
 
 
 class Told(unittest.TestCase):
@@ -48,25 +40,28 @@ class Told(unittest.TestCase):
         self.assertEqual(papers_of(Sheet(1, [(0, [("lack", 0)])]), 1), [("true", 0, 0, None)])
 
     def test_steps_of_true_facts_against_their_own_round(self):
-        rows = [(0, []), (1, [("lack", 0)]), (2, [("lack", 1)]), (3, [("have", 2)]), (3, [("have", 0), ("have", 2)]), (4, [("have", 0)])]
+        rows = [(0, []), (1, [("lack", 0)]), (2, [("lack", 1)]), (3, [("have", 2)]), (3, [("have", 0), ("have", 2)]),
+                (4, [("have", 0)])]
         self.assertEqual(papers_of(Sheet(5, rows), 0), [
             ("true", 1, 1, 0), ("false", 2), ("true", 2, 1, 2), ("true", 2, 2, 3), ("true", 1, 2, 5)])
 
     def test_steps_of_open_facts_against_the_true_ones(self):
-        rows = [(0, [("lack", 1)]), (1, [("lack", 0)]), (2, [("have", 3)]), (3, [("have", 0), ("have", 1)]), (3, [("have", 1)]),
+        rows = [(0, [("lack", 1)]), (1, [("lack", 0)]), (2, [("have", 3)]), (3, [("have", 0), ("have", 1)]),
+                (3, [("have", 1)]),
                 (4, [("lack", 2)]), (5, [("have", 4), ("lack", 5)])]
         self.assertEqual(papers_of(Sheet(6, rows), 0), [
             ("open", 1, 0), ("open", 1, 1), ("open", 3, 2), ("open", 2, 3), ("open", 1, 5), ("open", 2, 6)])
 
     def test_a_long_chain(self):
         rows = [(0, [])] + [(fact, [("lack", fact - 1)]) for fact in range(1, 120)]
-        expected = [("true", fact // 2 + 1, 1, fact) if fact % 2 == 0 else ("false", fact // 2 + 2) for fact in range(120)]
+        expected = [("true", fact // 2 + 1, 1, fact) if fact % 2 == 0 else ("false", fact // 2 + 2)
+                    for fact in range(120)]
         sheet = Sheet(120, rows)
         self.assertEqual(papers_of(sheet, 0), expected)
         self.assertIs(papers_hold(sheet, 0, expected), True)
 
     def test_as_the_reference_has_them_and_they_hold(self):
-        for _, many, rows, told in cases(62, 500, 9):
+        for _, many, rows, told in random_cases(62, 500, 9):
             sheet = Sheet(many, rows)
             papers = papers_of(sheet, told)
             self.assertEqual(papers, reference.papers(rows, many, reference.facts_in(told)))
@@ -178,7 +173,8 @@ class Holding(unittest.TestCase):
 
     def test_another_answer(self):
         for fact in range(MANY):
-            for paper in [("true", 0, 0, None), ("true", 9, 9, 0), ("true", 9, 9, 3), ("false", 9), ("false", 0), ("open", 9, 1),
+            for paper in [("true", 0, 0, None), ("true", 9, 9, 0), ("true", 9, 9, 3), ("false", 9), ("false", 0),
+                          ("open", 9, 1),
                           ("open", 9, 4), ("true", 9, 9, 1), ("true", 9, 9, 2), ("open", 9, 0), ("open", 9, 5)]:
                 if paper[0] != PAPERS[fact][0]:
                     self.hold_with(fact, paper, False)
@@ -201,9 +197,11 @@ class NoPapers(unittest.TestCase):
 
     def test_papers_of_another_kind_length_or_word(self):
         for fact, right in enumerate(PAPERS):
-            others = [list(right), right[:-1], right[1:], right + (0,), right + (None,), (right,), (right[0].upper(),) + right[1:],
+            others = [list(right), right[:-1], right[1:], right + (0,), right + (None,), (right,), (right[0].upper(),)
+                      + right[1:],
                       (right[0] + " ",) + right[1:], ("plain",) + right[1:], (None,) + right[1:], (True,) + right[1:],
-                      ([right[0]],) + right[1:], ((right[0],),) + right[1:], ({},) + right[1:], right[0], dict.fromkeys(right), (), ("",),
+                      ([right[0]],) + right[1:], ((right[0],),) + right[1:], ({},) + right[1:], right[0],
+                      dict.fromkeys(right), (), ("",),
                       (right[0],), right[:1] + (0,) + right[1:]]
             for paper in others + NO_TEXTS + [deep(right, 10)]:
                 self.refuse(PAPERS[:fact] + [paper] + PAPERS[fact + 1:])
@@ -218,7 +216,8 @@ class NoPapers(unittest.TestCase):
     def test_truths_for_right_numbers(self):
         rows = [(0, []), (0, [])]
         self.assertIs(papers_hold(Sheet(1, rows), 0, [("true", 1, 0, 1)]), True)
-        for paper in [("true", True, 0, 1), ("true", 1, False, 1), ("true", 1, 0, True), ("true", 1, 0, False), ("true", False, False, 0)]:
+        for paper in [("true", True, 0, 1), ("true", 1, False, 1), ("true", 1, 0, True), ("true", 1, 0, False),
+                      ("true", False, False, 0)]:
             self.refuse([paper], 1, rows, 0)
         for paper in [("true", False, 0, None), ("true", 0, False, None), ("true", False, False, None)]:
             self.refuse([paper], 1, rows, 1)
@@ -265,7 +264,7 @@ class Others(unittest.TestCase):
 
     def test_random_papers_as_the_reference_has_them(self):
         held = 0
-        for chance, many, rows, told in cases(63, 300, 4, 1):
+        for chance, many, rows, told in random_cases(63, 300, 4):
             sheet = Sheet(many, rows)
             for _ in range(60):
                 papers = [self.random_paper(chance, rows, fact, told) for fact in range(many)]
@@ -277,7 +276,7 @@ class Others(unittest.TestCase):
         self.assertGreater(held, 1000)
 
     def test_one_paper_changed(self):
-        for chance, many, rows, told in cases(64, 300, 8):
+        for chance, many, rows, told in random_cases(64, 300, 8):
             sheet = Sheet(many, rows)
             right = papers_of(sheet, told)
             for fact in range(many):
@@ -289,7 +288,7 @@ class Others(unittest.TestCase):
                         self.assertEqual(papers[fact][0], right[fact][0])
 
     def test_all_papers_of_small_sheets(self):
-        for _, many, rows, told in cases(65, 40, 2):
+        for _, many, rows, told in random_cases(65, 40, 2):
             sheet = Sheet(many, rows)
             forms = []
             for fact in range(many):
@@ -302,7 +301,7 @@ class Others(unittest.TestCase):
                     self.assertEqual([paper[0] for paper in papers], answers(sheet, told))
 
     def test_rounds_and_steps_moved_and_stretched(self):
-        for chance, many, rows, told in cases(66, 200, 8):
+        for chance, many, rows, told in random_cases(66, 200, 8):
             sheet = Sheet(many, rows)
             far = chance.randint(1, 10 ** 20)
             papers = [(paper[0], paper[1] * far) if paper[0] == "false" else

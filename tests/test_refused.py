@@ -94,7 +94,8 @@ class Lines(Refusals):
 class Says(Refusals):
     def test_wrong_words_and_terms(self):
         for line in ["say", "say ", "say p ", "say  p", "say p  a", "say p a ", "say p a b a b", "say p a a a a",
-                     "say P", "say X a", "say p X", "say p a X", "say p c", "say p a c", "say p p", "say p,", "say p a,",
+                     "say P", "say X a", "say p X", "say p a X", "say p c", "say p a c", "say p p", "say p,",
+                     "say p a,",
                      "say p, a", "say p a, b", "say p, say q", "say p a, q b", "say p\ta", "say p if q", "say not p",
                      "say abcdefg", "say p1", "say 1", "say p 1", "say p a if", "say say p", "say rule p"]:
             self.refuse_line(line)
@@ -145,7 +146,8 @@ class Heads(Refusals):
         for line in ["rule if", "rule if p", "rule p if", "rule p if ", "rule p if  ", "rule  if p", "rule p  if q",
                      "rule p if  q", "rule p if q ", "rule p if if q", "rule p if q if r", "rule p if q if",
                      "rule p if q, if r", "rule p, if q", "rule p if, q", "rule p ,if q", "rule p If q", "rule p IF q",
-                     "rule p\tif q", "rule p if\tq", "rule pif q", "rule p ifq", "rule p if if", "rule p if q if r if s",
+                     "rule p\tif q", "rule p if\tq", "rule pif q", "rule p ifq", "rule p if if",
+                     "rule p if q if r if s",
                      "if p rule q", "rule p X if q X if"]:
             self.refuse_line(line)
 
@@ -158,7 +160,8 @@ class Heads(Refusals):
 
 class Conds(Refusals):
     def test_commas_out_of_place(self):
-        for conds in [",", ", ", ", q", "q,", "q, ", "q,r", "q ,r", "q , r", "q,  r", "q,, r", "q, , r", "q, r,", "q, r, ",
+        for conds in [",", ", ", ", q", "q,", "q, ", "q,r", "q ,r", "q , r", "q,  r", "q,, r", "q, , r", "q, r,",
+                      "q, r, ",
                       "q;r", "q; r", ",q", "q X,r X", "q X ,r X", "q X, , r X", "q, X", "q X, Y", "not, q", "not q,",
                       "many, 1 X q X", "many 1, X q X", "many 1 X, q X", "first, X q X", "first X, q X", "q,\tr"]:
             self.refuse_line("rule p if " + conds)
@@ -171,7 +174,8 @@ class Conds(Refusals):
     def test_a_seventh_cond(self):
         self.accept_line("rule p if " + ", ".join(["q a"] * 6))
         self.refuse_line("rule p if " + ", ".join(["q a"] * 7))
-        self.refuse_line("rule p X if " + ", ".join(["q", "not q", "q X", "not q X", "many 1 Y q Y", "first X q X", "q"]))
+        self.refuse_line("rule p X if " + ", ".join(["q", "not q", "q X", "not q X", "many 1 Y q Y", "first X q X",
+                                                     "q"]))
         self.refuse_line("rule p if " + ", ".join(["q a"] * 40))
 
     def test_ayes(self):
@@ -201,7 +205,8 @@ class Conds(Refusals):
             self.refuse_line("rule p if " + cond)
 
     def test_numbers_beyond_one_to_six(self):
-        for number in ["0", "7", "8", "9", "10", "12", "123456", "66", "01", "1.", "1.0", "-1", "+1", "a", "A", "", "one",
+        for number in ["0", "7", "8", "9", "10", "12", "123456", "66", "01", "1.", "1.0", "-1", "+1", "a", "A", "",
+                       "one",
                        "1e0", "0x1", "1_", "1_1", "\t1", "I", "99999999999999999999"]:
             self.refuse_line("rule p if many " + number + " X q X")
 
@@ -218,7 +223,8 @@ class Conds(Refusals):
 
     def test_a_counted_variable_elsewhere_in_the_rule(self):
         for line in ["rule p X if many 1 X q X", "rule p a X if q, many 1 X q X", "rule p if q X, many 1 X q X",
-                     "rule p if many 1 X q X, q X", "rule p if many 1 X q X, not q X", "rule p if not q a X, many 1 X q X",
+                     "rule p if many 1 X q X, q X", "rule p if many 1 X q X, not q X",
+                     "rule p if not q a X, many 1 X q X",
                      "rule p if many 1 X q X, first X q X", "rule p if first X q X, many 1 X q X",
                      "rule p if first Y q X Y, many 1 X q X", "rule p if many 1 X q X, many 1 X q X",
                      "rule p if many 1 X q X, many 2 X r X", "rule p if many 1 X q X Y, many 1 Y q Y",

@@ -57,7 +57,8 @@ class Parts(unittest.TestCase):
         self.assertEqual(self.parts(2, [(0, 0, True), (0, 1, False), (1, 1, False)]), [(1,), (0,)])
 
     def test_parts_that_lean_on_the_same(self):
-        self.assertEqual(self.parts(6, [(0, 1, False), (1, 0, False), (0, 5, True), (2, 5, True), (3, 2, False), (2, 3, False)]),
+        self.assertEqual(self.parts(6, [(0, 1, False), (1, 0, False), (0, 5, True), (2, 5, True), (3, 2, False),
+                                        (2, 3, False)]),
                          [(4,), (5,), (0, 1), (2, 3)])
 
     def test_leanings_of_all_kinds_of_conds(self):
@@ -156,7 +157,8 @@ class Rings(unittest.TestCase):
         told = self.ring(2, [(0, 1, True), (1, 0, False)])
         self.assertIn(told, [("odd", (0, 1, 0), (True, False)), ("odd", (1, 0, 1), (False, True))])
         self.assertEqual(self.ring(2, [(0, 1, True), (0, 1, False), (1, 0, True)])[0], "odd")
-        self.assertEqual(self.ring(4, [(0, 1, True), (1, 0, True), (2, 3, True), (3, 2, False), (3, 0, True)])[0], "odd")
+        self.assertEqual(self.ring(4, [(0, 1, True), (1, 0, True), (2, 3, True), (3, 2, False), (3, 0, True)])[0],
+                         "odd")
 
     def test_even_rings_that_make_an_odd_one_together(self):
         # 0 to 1 and back, 1 to 2 and back, each with two lacks; 0 leans on 2 by a lack, which joins unlike sides.
@@ -209,7 +211,8 @@ class Rings(unittest.TestCase):
         for first in part:
             ends = {(first, 0)}
             for _ in range(2 * len(part)):
-                ends = {(other, side ^ lack) for fact, side in ends for other, lack in sheet.leaned(fact) if other in part}
+                ends = {(other, side ^ lack) for fact, side in ends for other, lack in sheet.leaned(fact)
+                        if other in part}
                 if (first, 1) in ends:
                     return True
         return False

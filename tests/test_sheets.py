@@ -66,7 +66,8 @@ class Telling(unittest.TestCase):
         sheet = Sheet(0, [])
         self.assertEqual((sheet.how_many(), sheet.row_list()), (0, []))
         sheet = Sheet(120, [])
-        self.assertEqual((sheet.how_many(), sheet.row_list(), sheet.rows_for(119), sheet.leaned(119)), (120, [], [], []))
+        self.assertEqual((sheet.how_many(), sheet.row_list(), sheet.rows_for(119), sheet.leaned(119)),
+                         (120, [], [], []))
         six = [("have", 119), ("lack", 0), ("some", 6, (1, 2, 3, 4, 5, 119)), ("lead", (6, 5, 4, 3, 2, 119), 5),
                ("some", 1, (7,)), ("lead", (8,), 0)]
         sheet = Sheet(120, [(119, six)] * 400)
@@ -166,7 +167,8 @@ class Refused(unittest.TestCase):
         self.refuse(0, [(0, [])] * 1000, None)
 
     def test_rows_that_are_no_tuple_of_two(self):
-        for row in [None, True, 0, "row", "ab", [], [0, []], {}, {0: []}, (), (0,), (0, [], []), (0, [], None), ([], 0)]:
+        for row in [None, True, 0, "row", "ab", [], [0, []], {}, {0: []}, (), (0,), (0, [], []), (0, [], None),
+                    ([], 0)]:
             self.refuse_row(row)
         for row in NO_TEXTS:
             self.refuse_row(row)

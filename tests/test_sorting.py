@@ -73,8 +73,10 @@ class Sorted(unittest.TestCase):
     def test_true_open_and_false_facts(self):
         rows = [(0, []), (1, [("lack", 0)]), (2, [("lack", 3)]), (3, [("lack", 2)]), (4, [("have", 2), ("have", 0)])]
         sorting = Sorting(Sheet(6, rows), 0)
-        self.assertEqual((sorting.true_facts(), sorting.false_facts(), sorting.open_facts()), (0b000001, 0b100010, 0b011100))
-        self.assertEqual([sorting.answer_of(fact) for fact in range(6)], ["true", "false", "open", "open", "open", "false"])
+        self.assertEqual((sorting.true_facts(), sorting.false_facts(), sorting.open_facts()),
+                         (0b000001, 0b100010, 0b011100))
+        self.assertEqual([sorting.answer_of(fact) for fact in range(6)],
+                         ["true", "false", "open", "open", "open", "false"])
 
     def test_a_sheet_without_facts(self):
         sorting = Sorting(Sheet(0, []), 0)
@@ -111,8 +113,10 @@ class Sorted(unittest.TestCase):
             self.assertEqual(sorting.runs(), [tuple(map(reference.bits_of, pair)) for pair in pairs])
             expected = reference.answers(rows, many, reference.facts_in(told))
             self.assertEqual([sorting.answer_of(fact) for fact in range(many)], expected)
-            for word, facts in [("true", sorting.true_facts()), ("false", sorting.false_facts()), ("open", sorting.open_facts())]:
-                self.assertEqual(sorted(reference.facts_in(facts)), [fact for fact in range(many) if expected[fact] == word])
+            for word, facts in [("true", sorting.true_facts()), ("false", sorting.false_facts()),
+                                ("open", sorting.open_facts())]:
+                self.assertEqual(sorted(reference.facts_in(facts)), [fact for fact in range(many)
+                                                                     if expected[fact] == word])
             seen.update(expected)
         self.assertEqual(seen, {"true", "false", "open"})
 

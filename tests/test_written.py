@@ -56,14 +56,16 @@ class Written(unittest.TestCase):
         self.assertEqual(told("things a\nrule p\nrule q X"), (["p", "q a"], [(0, ()), (1, ())], 0))
 
     def test_names_in_the_order_of_texts(self):
-        lines = ["say b", "say ab", "say a b", "say a", "say a b b", "say a a", "say a ab", "say aa", "say aa b", "say a c"]
+        lines = ["say b", "say ab", "say a b", "say a", "say a b b", "say a a", "say a ab", "say aa", "say aa b",
+                 "say a c"]
         names, _, said = told("things b a ab c\n" + "\n".join(lines))
         self.assertEqual(names, ["a", "a a", "a ab", "a b", "a b b", "a c", "aa", "aa b", "ab", "b"])
         self.assertEqual(said, (1 << 10) - 1)
 
     def test_rows_come_rule_by_rule(self):
         rows, said = texts("things b a\nrule z X\nsay y\nrule y\nrule a X if z X")
-        self.assertEqual(rows, [("z b", []), ("z a", []), ("y", []), ("a b", [("have", "z b")]), ("a a", [("have", "z a")])])
+        self.assertEqual(rows, [("z b", []), ("z a", []), ("y", []), ("a b", [("have", "z b")]),
+                                ("a a", [("have", "z a")])])
         self.assertEqual(said, ["y"])
 
     def test_the_first_variable_of_the_line_goes_slowest(self):
@@ -115,7 +117,8 @@ class Written(unittest.TestCase):
 
     def test_the_same_variable_several_times(self):
         rows, _ = texts("things a b\nrule p X X if q X a X, not r X X, many 1 Y s Y X Y")
-        self.assertEqual(rows[1], ("p b b", [("have", "q b a b"), ("lack", "r b b"), ("some", 1, ("s a b a", "s b b b"))]))
+        self.assertEqual(rows[1], ("p b b", [("have", "q b a b"), ("lack", "r b b"),
+                                             ("some", 1, ("s a b a", "s b b b"))]))
 
     def test_counts_beyond_the_number_of_things_and_one_thing(self):
         rows, _ = texts("things a\nrule p if many 6 X q X, first Y q Y")
@@ -173,7 +176,8 @@ class Bounds(unittest.TestCase):
         self.assertEqual(len(told(text)[1]), 216)
 
     def test_120_facts(self):
-        lines = ["things a b c d e f", "rule p X Y", "rule q X Y", "rule r X Y"] + ["say " + word for word in letter_words(12)]
+        lines = ["things a b c d e f", "rule p X Y", "rule q X Y", "rule r X Y"] + ["say " + word
+                                                                                    for word in letter_words(12)]
         names, rows, said = told("\n".join(lines))
         self.assertEqual((len(names), len(rows), len(reference.facts_in(said))), (120, 108, 12))
         self.refuse("\n".join(lines + ["say zz"]), TooManyFacts, 121)
