@@ -153,6 +153,10 @@ class Rules(unittest.TestCase):
         rule = rule_of("rule p W X Y if many 2 A q A Z W, many 3 B q X B, many 1 C q C, not q W X Y, first Z q Z")
         self.assertEqual([cond[0] for cond in rule[1]], ["many", "many", "many", "not", "first"])
 
+    def test_things_do_not_count_among_the_four(self):
+        self.assertEqual(rule_of("rule p W X a if q Y Z b, not q a b"), (
+            ("p", "W", "X", "a"), (("aye", ("q", "Y", "Z", "b")), ("not", ("q", "a", "b")))))
+
     def test_six_counted_variables(self):
         rule = rule_of("rule p if " + ", ".join(["many 1 " + letter + " q " + letter for letter in "ABCDEF"]))
         self.assertEqual([cond[2] for cond in rule[1]], ["A", "B", "C", "D", "E", "F"])

@@ -206,6 +206,16 @@ class NoPapers(unittest.TestCase):
             for paper in others + NO_TEXTS + [deep(right, 10)]:
                 self.refuse(PAPERS[:fact] + [paper] + PAPERS[fact + 1:])
 
+    def test_what_would_be_right_but_for_its_word_or_length(self):
+        for fact, papers in [(3, [("open", 1, 2, 2), ("plain", 1, 2, 2), ("open", 1, 2, None), ("plain", 1, 2),
+                                  ("", 1, 2, 2)]),
+                             (1, [("true", 1, 1, 0, 0), ("plain", 1, 1, 0), ("open", 1, 1, 0)]),
+                             (5, [("false", 1, 1), ("false", 1, None), ("plain", 1), ("false", 1, 1, None)]),
+                             (0, [("plain", 0, 0, None), ("true", 0, 0), ("true", 0, None),
+                                  ("true", 0, 0, None, None)])]:
+            for paper in papers:
+                self.refuse(PAPERS[:fact] + [paper] + PAPERS[fact + 1:])
+
     def test_no_whole_numbers(self):
         for fact, right in enumerate(PAPERS):
             for place in range(1, len(right)):

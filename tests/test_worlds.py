@@ -53,6 +53,14 @@ class Worlds(unittest.TestCase):
     def test_the_least_fact_is_told_of_a_broken_node(self):
         self.assertEqual(tree_of(Sheet(2, BOTH), 0), BOTH_TREE)
 
+    def test_a_node_that_is_broken_is_narrowed_no_further(self):
+        # In the last branch but one a further turn would bring 0, which is less, to what is broken.
+        rows = [(1, [("lack", 1)]), (0, [("lack", 1)])]
+        self.assertEqual(tree_of(Sheet(2, rows), 0), (
+            "split", 0, ("split", 1, ("broken", 0), ("broken", 0)), ("split", 1, ("broken", 1), ("broken", 0))))
+        self.assertIs(tree_holds(Sheet(2, rows), 0, (
+            "split", 0, ("split", 1, ("broken", 0), ("broken", 0)), ("split", 1, ("broken", 0), ("broken", 0)))), False)
+
     def test_trees_as_the_reference_has_them(self):
         for _, many, rows, told in random_cases(73, 200, 6):
             self.assertEqual(tree_of(Sheet(many, rows), told), reference.tree(rows, reference.facts_in(told)),
@@ -148,6 +156,10 @@ class Holding(unittest.TestCase):
         self.hold(4, rows, ("split", 0, ("world", 0b0101), ("world", 0b0110)), True)
         for fact in [2, 3, 4, 5, 120, -1, -4, 10 ** 99, -(10 ** 99)]:
             self.hold(4, rows, ("split", fact, ("world", 0b0101), ("world", 0b0110)), False)
+        # A split at a sure fact, or at one that may not be, would leave the node as it is on one side.
+        tree = tree_of(Sheet(4, rows), 0)
+        self.hold(4, rows, ("split", 2, tree, ("broken", 2)), False)
+        self.hold(4, rows, ("split", 3, ("broken", 3), tree), False)
 
     def test_another_fact_at_a_broken_node(self):
         self.hold(2, BOTH, BOTH_TREE, True)
